@@ -1,0 +1,1 @@
+"""Firmroll: a roll of rights and a text, kept by hands that seldom meet."""
