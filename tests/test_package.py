@@ -18,6 +18,18 @@ CLASSES = {
         "NoUse": ("RollError", ["self", "what"]),
         "NoText": ("RollError", ["self", "what"]),
     },
+    "rolls.py": {
+        "Roll": (None, ["self", "members"]),
+    },
+}
+
+METHODS = {
+    "__len__": [], "__eq__": ["other"], "__ne__": ["other"],
+    "members": [], "hear": ["deed"], "deeds": [], "waiting": [], "join": ["other"],
+    "note": ["member"], "next_deed": ["member", "what"], "stands": ["mark"],
+    "has": ["member", "power", "kind"], "is_settled": ["mark"], "waits_for": ["mark"],
+    "text": [], "firm_text": [], "firm": [], "firm_waits": ["mark"], "paper": ["mark"],
+    "paper_holds": ["mark", "rows"],
 }
 
 FUNCTIONS = {
@@ -27,6 +39,14 @@ FUNCTIONS = {
         "size": ["deed"],
         "has_seen": ["deed", "mark"],
         "in_order": ["deeds"],
+    },
+    "texts.py": {
+        "show_deed": ["deed"],
+        "show_roll": ["roll"],
+    },
+    "readings.py": {
+        "read_deed": ["text"],
+        "read_roll": ["text"],
     },
 }
 
@@ -59,8 +79,17 @@ class TestInterface(unittest.TestCase):
             found = {part.name: part for part in tree_of(name).body
                      if isinstance(part, ast.ClassDef)}
             for word, (base, expected) in listed.items():
-                self.assertEqual([one.id for one in found[word].bases], [base], word)
+                bases = [one.id for one in found[word].bases]
+                self.assertEqual(bases, [base] if base else [], word)
                 self.assertEqual(own_init(found[word]), expected, word)
+
+    def test_methods_are_defined_in_the_class_itself(self):
+        roll = [part for part in tree_of("rolls.py").body if isinstance(part, ast.ClassDef)
+                and part.name == "Roll"][0]
+        found = {part.name: parameters(part) for part in roll.body
+                 if isinstance(part, ast.FunctionDef)}
+        for method, expected in METHODS.items():
+            self.assertEqual(found.get(method), ["self"] + expected, method)
 
 
 class TestFiles(unittest.TestCase):
